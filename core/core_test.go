@@ -3,6 +3,7 @@ package core
 import (
 	"math"
 	"reflect"
+	"slices"
 	"testing"
 
 	"tilth/api"
@@ -76,6 +77,10 @@ func TestNewParts(t *testing.T) {
 			t.Fatal(rest.Row)
 		}
 		rest.Row = nil
+		if slices.Contains(rest.within, true) {
+			t.Fatal(rest.within)
+		}
+		rest.within = nil
 		if !reflect.DeepEqual(rest, Core{Look: -1}) {
 			t.Fatalf("the rest: %+v", rest)
 		}

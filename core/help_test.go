@@ -7,6 +7,7 @@ import (
 	"testing"
 
 	"tilth/api"
+	"tilth/head"
 	"tilth/obj"
 )
 
@@ -103,6 +104,14 @@ func heads(t *testing.T, c *Core, at int, change func(h *api.Head)) {
 	is(t, obj.SetHead(c.Arena, at, h), api.OK)
 }
 
+// likeHead is a scalar that is just like a head, of that size and half as many references.
+func likeHead(t *testing.T, size int) uint64 {
+	t.Helper()
+	w, ok := head.Pack(api.Head{Size: size, Ptrs: size / 2})
+	same(t, "Pack", ok, true)
+	return w
+}
+
 // flips: from now on the half that was filled is emptied.
 func flips(t *testing.T, c *Core) {
 	t.Helper()
@@ -158,7 +167,7 @@ type picture struct {
 func see(c *Core) picture {
 	p := picture{Rest: *c, Starts: c.Old.Starts(0, 2*api.MaxWords), Rem: [2]int{c.Rem.Left(), c.Rem.Len()}, Grey: c.Grey.All(), Lost: c.Grey.Lost(), Table: c.Table.All()}
 	p.Rest.Arena, p.Rest.Young, p.Rest.Old, p.Rest.Rem, p.Rest.Grey, p.Rest.Table = nil, nil, nil, nil, nil, nil
-	p.Rest.Row = slices.Clone(c.Row)
+	p.Rest.Row, p.Rest.within = slices.Clone(c.Row), slices.Clone(c.within)
 	for at := range c.Arena.Len() {
 		w, _ := c.Arena.Load(at)
 		p.Words = append(p.Words, w)

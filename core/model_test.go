@@ -110,6 +110,9 @@ func (p pair) writes(t *testing.T, h, n int) {
 		e = below(n, len(p.m[h].scalars))
 	}
 	w := uint64(p.c.Done.Allocs) + 1
+	if w%2 == 0 {
+		w = likeHead(t, int(w/2%7))
+	}
 	is(t, p.c.Write(h, n, w), e)
 	if e == api.OK {
 		p.m[h].scalars[n] = w
@@ -301,9 +304,29 @@ func (p pair) agrees(t *testing.T) {
 			meets(c.Now(int(fieldOf(t, c, at, n))), ref)
 		}
 	}
+	p.stays(t)
 	if c.Moving && c.Young.Room() < c.Young.Left()-c.Copied {
 		t.Fatalf("Room %d, Left %d, Copied %d", c.Young.Room(), c.Young.Left(), c.Copied)
 	}
+}
+
+// stays: what is no object is not moved, and not found, whatever stands there.
+func (p pair) stays(t *testing.T) {
+	t.Helper()
+	c := p.c
+	used, copied, grey := c.Young.Used(), c.Copied, c.Grey.Len()
+	now, other := c.Young.Begin()
+	for _, part := range [][2]int{{now, used}, {other, c.Young.Left()}} {
+		for at := part[0]; at < part[0]+part[1]; at++ {
+			for range obj.Words(headOf(t, c, at)) - 1 {
+				at++
+				same(t, "Now", c.Now(at), at)
+				same(t, "Move", c.Move(at), at)
+				c.Mark(at)
+			}
+		}
+	}
+	same(t, "is it as it was", [3]int{c.Young.Used(), c.Copied, c.Grey.Len()}, [3]int{used, copied, grey})
 }
 
 // fits: an object that is held has the node's shape and scalars, and the marks that it must have.
@@ -359,7 +382,11 @@ func runs(t *testing.T, kind int, script []byte) {
 	c := fresh(t, scripted(kind))
 	p := pair{c, make(model, c.C.Handles)}
 	for ; len(script) >= 4; script = script[4:] {
+		asked := c.Arena.Count()
 		p.does(t, int(script[0]), int(script[1])%6, int(script[2])%6, int(script[3])%4)
+		if asked = c.Arena.Count() - asked; script[0]%16 < 11 && asked > 4*c.C.Largest+40 {
+			t.Fatalf("call %d asks for %d words", script[0]%16, asked)
+		}
 		p.agrees(t)
 	}
 	p.finishes(t)

@@ -16,10 +16,30 @@ func (c *Core) old(at int) bool {
 	return ok
 }
 
-// head: the head of the object that begins there. Of a place of the nursery its word tells whether one does, as
-// going through the half would ask for too many words.
+// begins: may an object begin there? A scalar may be just like a head, and going through the half would ask for too
+// many words, so that it is kept where none begins.
+func (c *Core) begins(at int) bool {
+	if c.young(at) {
+		return at >= len(c.within) || !c.within[at]
+	}
+	return c.old(at)
+}
+
+// settle: room for one object of the nursery. What stood there ahead, when the half was filled before, is forgotten.
+func (c *Core) settle(words int) (int, bool) {
+	at, ok := c.Young.Take(words)
+	if !ok {
+		return 0, false
+	}
+	for n := range min(words, len(c.within)-at) {
+		c.within[at+n] = n > 0
+	}
+	return at, true
+}
+
+// head: the head of the object that begins there.
 func (c *Core) head(at int) (api.Head, bool) {
-	if !c.young(at) && !c.old(at) {
+	if !c.begins(at) {
 		return api.Head{}, false
 	}
 	h, e := obj.Head(c.Arena, at)
@@ -87,7 +107,7 @@ func (c *Core) next(age, words int) (to int, old, ok bool) {
 			return to, true, true
 		}
 	}
-	to, ok = c.Young.Take(words)
+	to, ok = c.settle(words)
 	return to, false, ok
 }
 

@@ -33,7 +33,7 @@ func cameTo(at int) (int, bool) {
 	return at, false
 }
 
-// scene is a core amid a minor cycle. Its objects have references, and scalars that are no heads.
+// scene is a core amid a minor cycle. Its objects have references, and scalars that are just like heads.
 func scene(t *testing.T) *Core {
 	t.Helper()
 	c := fresh(t, plain())
@@ -46,7 +46,7 @@ func scene(t *testing.T) *Core {
 	for h, scalars := range []int{1, 1, 2, 0} {
 		is(t, c.Set(h, 0, 1), api.OK)
 		for n := range scalars {
-			is(t, c.Write(h, n, math.MaxUint64>>n), api.OK)
+			is(t, c.Write(h, n, likeHead(t, n)), api.OK)
 		}
 	}
 	heads(t, c, elder, func(h *api.Head) { h.Noted = false })
